@@ -1,0 +1,34 @@
+package seats_test
+
+import (
+	"fmt"
+
+	"seats/api"
+	"seats/seats"
+)
+
+// What README.md shows.
+func Example() {
+	price, err := seats.Price([]int{10, 10, 10}, 4)
+	fmt.Println(price, err)
+	x, err := seats.New(api.Config{
+		Seats: 2, Delay: 2, Rate: 100, Cut: 100, Length: 10, Need: 500,
+		Start: []int{1000, 500},
+	})
+	fmt.Println(err)
+	err = x.Send(0, 1, 300)
+	fmt.Println(err)
+	account, err := x.See(1)
+	fmt.Println(account.Liquid, err)
+	state := x.State()
+	fmt.Println(state.Supply)
+	amount, err := x.Due(0, 2)
+	fmt.Println(amount, err)
+	// Output:
+	// 5 0
+	// 0
+	// 0
+	// 800 0
+	// 1500
+	// 0 0
+}
