@@ -7,6 +7,8 @@ type account struct {
 	liquid, locked, bid, seats, shares int
 	// queue[k] comes back k + 1 epochs from now: nothing is ever due later than in MaxDelay epochs.
 	queue [api.MaxDelay]int
+	// cheated: Slash was called for it in this epoch.
+	cheated bool
 }
 
 // queued is all that comes back to the account later.
@@ -24,6 +26,32 @@ func (c *account) dueIn(epochs int) int {
 		return 0
 	}
 	return c.queue[epochs-1]
+}
+
+// unlock queues so much of what is locked, to come back so many epochs from now.
+func (c *account) unlock(amount int, epochs int) {
+	if !within(epochs, 1, api.MaxDelay) {
+		return
+	}
+	c.locked -= amount
+	c.queue[epochs-1] += amount
+}
+
+// quit unlocks all, and the account bids no more.
+func (c *account) quit(epochs int) {
+	all := c.locked
+	c.unlock(all, epochs)
+	c.bid = 0
+}
+
+// comeBack makes liquid what is due in the next epoch; all behind it is then due one epoch sooner.
+func (c *account) comeBack() {
+	c.liquid += c.queue[0]
+	last := api.MaxDelay - 1
+	for k := 0; k < last; k++ {
+		c.queue[k] = c.queue[k+1]
+	}
+	c.queue[last] = 0
 }
 
 // seen is the account as See tells it.

@@ -2,6 +2,23 @@ package seats
 
 import "seats/api"
 
+// rules is what a chain was made with, but for Start, which becomes the accounts' at once.
+type rules struct {
+	seats, delay, rate, cut, length, need int
+}
+
+// rulesOf takes the numbers alone: the list stays its owner's.
+func rulesOf(c api.Config) rules {
+	return rules{
+		seats:  c.Seats,
+		delay:  c.Delay,
+		rate:   c.Rate,
+		cut:    c.Cut,
+		length: c.Length,
+		need:   c.Need,
+	}
+}
+
 // within tells whether v is low to high, both ends with it.
 func within(v int, low int, high int) bool {
 	return v >= low && v <= high

@@ -20,15 +20,27 @@ func Example() {
 	fmt.Println(err)
 	account, err := x.See(1)
 	fmt.Println(account.Liquid, err)
+	err = x.Bid(0, 600)
+	fmt.Println(err)
+	err = x.Bid(1, 200)
+	fmt.Println(err)
+	err = x.Next(0)
+	fmt.Println(err)
 	state := x.State()
-	fmt.Println(state.Supply)
-	amount, err := x.Due(0, 2)
+	fmt.Println(state.Supply, state.Price)
+	leader, err := x.Leader(3)
+	fmt.Println(leader, err)
+	amount, err := x.Due(1, 2)
 	fmt.Println(amount, err)
 	// Output:
 	// 5 0
 	// 0
 	// 0
 	// 800 0
-	// 1500
+	// 0
+	// 0
+	// 0
+	// 1650 300
 	// 0 0
+	// 200 0
 }

@@ -149,3 +149,19 @@ func TestChainsAreApart(t *testing.T) {
 	checkSee(t, y, 0, api.Account{Liquid: 1500}, api.OK)
 	checkSee(t, z, 0, api.Account{Liquid: 1000}, api.OK)
 }
+
+// What is bid and ended on one chain shows on no other, nor on a copy.
+func TestChainsAreApartBehindBidAndNext(t *testing.T) {
+	x := exampleBehindOne(t)
+	y := mustNew(t, example())
+	copied := *x
+	checkNext(t, x, 3)
+	checkBid(t, x, 1, 500, api.OK)
+	checkNext(t, x, 0)
+	checkTurns(t, x, 10, []int{1, 0})
+	checkTurns(t, &copied, 10, []int{0})
+	checkSee(t, &copied, 1, api.Account{Liquid: 300, Queued: 200}, api.OK)
+	checkState(t, &copied, api.State{Epoch: 1, Supply: 1650, Treasury: 150, Price: 300})
+	checkLiquid(t, y, 1000, 500)
+	checkLeader(t, y, 0, 0, api.ErrNone)
+}

@@ -8,10 +8,13 @@ import "seats/api"
 // It holds arrays and no slices, so that no two chains can share anything.
 type Chain struct {
 	people   int // N: the accounts but the pool, whose number this is
+	rules    rules
 	epoch    int
 	treasury int
 	price    int
 	accounts [api.MaxAccounts + 1]account
+	turns    turns
+	blocks   [api.MaxLength]bool // of each height of this epoch, whether it has a block
 }
 
 // Price tells the price of a seat (P3).
@@ -30,7 +33,7 @@ func New(c api.Config) (*Chain, api.Errno) {
 	if !numbersFit(c) || !startFits(c.Start) {
 		return nil, api.ErrConfig
 	}
-	x := &Chain{people: len(c.Start)}
+	x := &Chain{people: len(c.Start), rules: rulesOf(c)}
 	for i, amount := range c.Start {
 		x.accounts[i].liquid = amount
 	}
@@ -85,13 +88,52 @@ func (x *Chain) Send(a int, b int, amount int) api.Errno {
 }
 
 // Bid tells how much an account will have locked (P7).
-func (x *Chain) Bid(a int, amount int) api.Errno { return api.OK }
+func (x *Chain) Bid(a int, amount int) api.Errno {
+	if !x.isPerson(a) {
+		return api.ErrName
+	}
+	if !within(amount, 0, api.MaxSupply) {
+		return api.ErrAmount
+	}
+	c := &x.accounts[a]
+	more := amount - c.locked
+	if more > c.liquid {
+		return api.ErrFunds
+	}
+	// A bid below what is locked frees nothing yet: that is for the end of the epoch.
+	if more > 0 {
+		c.liquid -= more
+		c.locked += more
+	}
+	c.bid = amount
+	return api.OK
+}
 
-// Next ends an epoch (P8).
-func (x *Chain) Next(seed int) api.Errno { return api.OK }
+// Next ends an epoch (P8). Each call in it is one step, in the document's order.
+func (x *Chain) Next(seed int) api.Errno {
+	due := x.epoch + x.rules.delay
+	judged := x.judge()
+	x.burn(judged)
+	x.pay(judged)
+	x.dismiss(judged, due)
+	x.begin()
+	x.lockPool()
+	x.lowerToBids(due)
+	x.sell(due)
+	x.draw(seed)
+	return api.OK
+}
 
 // Leader tells whose turn a height is (P9).
-func (x *Chain) Leader(height int) (int, api.Errno) { return 0, api.OK }
+func (x *Chain) Leader(height int) (int, api.Errno) {
+	if !within(height, 0, x.rules.length-1) {
+		return 0, api.ErrHeight
+	}
+	if x.turns.length < 1 {
+		return 0, api.ErrNone
+	}
+	return x.turns.row[height%x.turns.length], api.OK
+}
 
 // Make makes the block of a height (P9).
 func (x *Chain) Make(height int) api.Errno { return api.OK }

@@ -55,9 +55,12 @@ func sweepTwo(t *testing.T, x *Chain, v int, w int) {
 }
 
 func TestCallsOfAChainAtAllEdges(t *testing.T) {
-	for _, start := range [][]int{{0}, {1000, 500}, {10000000, 1, 2, 3, 4, 10000000}} {
-		c := example()
-		c.Start = start
+	for _, c := range []api.Config{
+		{Seats: 2, Delay: 2, Rate: 100, Cut: 100, Length: 10, Need: 500, Start: []int{0}},
+		example(),
+		{Seats: 1, Delay: 2, Length: 1, Start: []int{7}},
+		{Seats: 10, Delay: 5, Rate: 100, Cut: 1000, Length: 20, Need: 1000, Start: []int{10000000, 1, 2, 3, 4, 10000000}},
+	} {
 		x := mustNew(t, c)
 		for _, v := range edges {
 			for _, w := range edges {
