@@ -32,6 +32,16 @@ func Example() {
 	fmt.Println(leader, err)
 	amount, err := x.Due(1, 2)
 	fmt.Println(amount, err)
+	err = x.Make(3)
+	fmt.Println(err)
+	err = x.Make(3)
+	fmt.Println(err == api.ErrAgain)
+	err = x.Slash(0)
+	fmt.Println(err)
+	err = x.Next(0)
+	fmt.Println(err)
+	state = x.State()
+	fmt.Println(state.Supply, state.Price)
 	// Output:
 	// 5 0
 	// 0
@@ -43,4 +53,9 @@ func Example() {
 	// 1650 300
 	// 0 0
 	// 200 0
+	// 0
+	// true
+	// 0
+	// 0
+	// 1485 0
 }

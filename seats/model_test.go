@@ -82,6 +82,28 @@ func (m *model) leader(height int) (int, api.Errno) {
 	return m.row[height%len(m.row)], api.OK
 }
 
+func (m *model) makeAt(height int) api.Errno {
+	_, e := m.leader(height)
+	if e == api.OK && m.hasBlock[height] {
+		return api.ErrAgain
+	}
+	if e == api.OK {
+		m.hasBlock[height] = true
+	}
+	return e
+}
+
+func (m *model) slash(a int) api.Errno {
+	switch {
+	case a < 0 || a > len(m.c.Start):
+		return api.ErrName
+	case m.seats[a] == 0:
+		return api.ErrNone
+	}
+	m.slashedNow[a] = true
+	return api.OK
+}
+
 func (m *model) worked(a int) (made int, asked int) {
 	for height := range m.c.Length {
 		if leader, e := m.leader(height); e == api.OK && leader == a {
@@ -286,16 +308,18 @@ func (p pair) act(t *testing.T, r *rand.Rand) {
 		have = p.m.liquid[a] + p.m.locked[a]
 	}
 	amount := anAmount(r, have)
-	switch r.Intn(10) {
+	switch r.Intn(14) {
 	case 0, 1, 2, 3:
 		checkBid(t, p.x, a, amount, p.m.bidFor(a, amount))
 	case 4:
-		checkSend(t, p.x, a, b, amount, p.m.send(a, b, amount))
+		p.bidAlike(t, amount)
 	case 5:
-		p.makeSome(r)
-	case 6:
-		p.slash(r, a)
-	case 7:
+		checkSend(t, p.x, a, b, amount, p.m.send(a, b, amount))
+	case 6, 7, 8:
+		p.makeSome(t, r)
+	case 9:
+		checkSlash(t, p.x, a, p.m.slash(a))
+	case 10:
 		p.fillPool(a, amount)
 	default:
 		seed := aSeed(r)
@@ -304,22 +328,29 @@ func (p pair) act(t *testing.T, r *rand.Rand) {
 	}
 }
 
-// makeSome makes blocks by hand: as many as a call of its own would.
-func (p pair) makeSome(r *rand.Rand) {
-	for height := range p.m.c.Length {
-		if _, e := p.m.leader(height); e == api.OK && r.Intn(4) > 0 {
-			p.m.hasBlock[height] = true
-			p.x.blocks[height] = true
-		}
+// bidAlike has all accounts bid the same, as far as they can: so that more than one has a seat.
+func (p pair) bidAlike(t *testing.T, amount int) {
+	t.Helper()
+	for a := range p.m.c.Start {
+		most := min(amount, p.m.liquid[a]+p.m.locked[a])
+		checkBid(t, p.x, a, most, p.m.bidFor(a, most))
 	}
 }
 
-// slash does so by hand, only for one who has a seat.
-func (p pair) slash(r *rand.Rand, a int) {
-	if a >= 0 && a < len(p.m.seats) && p.m.seats[a] > 0 && r.Intn(2) == 0 {
-		p.m.slashedNow[a] = true
-		p.x.accounts[a].cheated = true
+// makeSome tries heights from below the first to above the last: of some leaders few or none, of some all.
+func (p pair) makeSome(t *testing.T, r *rand.Rand) {
+	t.Helper()
+	zeal := make([]int, len(p.m.locked))
+	for a := range zeal {
+		zeal[a] = r.Intn(5)
 	}
+	for height := -1; height <= p.m.c.Length; height++ {
+		if leader, _ := p.m.leader(height); r.Intn(4) < zeal[leader] {
+			checkMake(t, p.x, height, p.m.makeAt(height))
+		}
+	}
+	height := edges[r.Intn(len(edges))]
+	checkMake(t, p.x, height, p.m.makeAt(height))
 }
 
 // fillPool gives to the pool by hand.
@@ -378,6 +409,30 @@ func TestLongChainAsTheModel(t *testing.T) {
 		p := pair{mustNew(t, c), newModel(c)}
 		for range 1500 {
 			p.act(t, r)
+			p.check(t)
+		}
+	}
+}
+
+// Several have seats in most epochs, and some of them cheat or make too little.
+func TestSeatedChainsAsTheModel(t *testing.T) {
+	r := rand.New(rand.NewSource(5))
+	for range 60 {
+		c := aConfig(r)
+		c.Need = 1 + r.Intn(api.Whole)
+		p := pair{mustNew(t, c), newModel(c)}
+		for range 40 {
+			p.bidAlike(t, anAmount(r, slices.Max(c.Start)))
+			p.fillPool(r.Intn(len(c.Start)), r.Intn(1+slices.Max(c.Start)/4))
+			p.makeSome(t, r)
+			for range r.Intn(3) {
+				a := r.Intn(len(c.Start) + 1)
+				checkSlash(t, p.x, a, p.m.slash(a))
+			}
+			p.check(t)
+			seed := aSeed(r)
+			p.m.next(seed)
+			checkNext(t, p.x, seed)
 			p.check(t)
 		}
 	}

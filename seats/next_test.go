@@ -44,23 +44,6 @@ func exampleBehindOne(t *testing.T) *Chain {
 	return x
 }
 
-// giveBlocks makes blocks by hand, at all heights up to below count.
-func giveBlocks(x *Chain, count int) {
-	for height := range count {
-		x.blocks[height] = true
-	}
-}
-
-// giveBlocksOf makes so many blocks of an account by hand.
-func giveBlocksOf(x *Chain, a int, count int) {
-	for height := range x.rules.length {
-		if leader, e := x.Leader(height); count > 0 && e == api.OK && leader == a {
-			x.blocks[height] = true
-			count--
-		}
-	}
-}
-
 func TestFirstNextOfTheExample(t *testing.T) {
 	x := exampleBehindOne(t)
 	checkState(t, x, api.State{Epoch: 1, Supply: 1650, Treasury: 150, Price: 300})
@@ -80,7 +63,7 @@ func TestFirstNextOfTheExample(t *testing.T) {
 
 func TestSecondNextOfTheExample(t *testing.T) {
 	x := exampleBehindOne(t)
-	giveBlocks(x, 5)
+	makeBlocks(t, x, 5)
 	checkNext(t, x, 0)
 	checkState(t, x, api.State{Epoch: 2, Supply: 1815, Treasury: 241, Price: 337})
 	checkSee(t, x, 0, api.Account{Liquid: 400, Locked: 674, Bid: 674, Seats: 2}, api.OK)
@@ -89,7 +72,7 @@ func TestSecondNextOfTheExample(t *testing.T) {
 
 func TestLazyAloneIsNot(t *testing.T) {
 	x := exampleBehindOne(t)
-	giveBlocks(x, 4)
+	makeBlocks(t, x, 4)
 	checkNext(t, x, 0)
 	checkState(t, x, api.State{Epoch: 2, Supply: 1815, Treasury: 256, Price: 329})
 	checkSee(t, x, 0, api.Account{Liquid: 400, Locked: 659, Bid: 659, Seats: 2}, api.OK)
@@ -97,8 +80,8 @@ func TestLazyAloneIsNot(t *testing.T) {
 
 func TestSlashedOfTheExample(t *testing.T) {
 	x := exampleBehindOne(t)
-	giveBlocks(x, 10)
-	x.accounts[0].cheated = true
+	makeBlocks(t, x, 10)
+	checkSlash(t, x, 0, api.OK)
 	checkNext(t, x, 0)
 	checkState(t, x, api.State{Epoch: 2, Supply: 1485, Treasury: 285})
 	checkSee(t, x, 0, api.Account{Liquid: 400, Queued: 300}, api.OK)
@@ -121,8 +104,8 @@ func TestLazyAtTheNeed(t *testing.T) {
 		{800, 3, true}, {800, 4, false}, {801, 4, true}, {1000, 4, true}, {1000, 5, false},
 	} {
 		x := staked(t, two(c.need))
-		giveBlocksOf(x, 0, c.made)
-		giveBlocksOf(x, 1, 5)
+		makeBlocksOf(t, x, 0, c.made)
+		makeBlocksOf(t, x, 1, 5)
 		checkNext(t, x, 0)
 		paid := 200 * c.made / 10
 		if c.isLazy {
@@ -138,11 +121,36 @@ func TestLazyAtTheNeed(t *testing.T) {
 	}
 }
 
+// With turns that do not come out even each is held to its own: 1 leads three heights of five, 0 leads two.
+func TestLazyAtTheNeedOfItsOwnTurns(t *testing.T) {
+	for _, c := range []struct {
+		need, made0, made1 int
+		isLazy0, isLazy1   bool
+	}{
+		{333, 2, 1, false, false}, {334, 2, 1, false, true}, {666, 2, 2, false, false}, {667, 2, 2, false, true},
+		{1000, 2, 2, false, true}, {1000, 2, 3, false, false}, {500, 1, 3, false, false}, {501, 1, 3, true, false},
+		{500, 1, 1, false, true}, {500, 0, 2, true, false}, {501, 1, 2, true, false}, {400, 1, 1, false, true},
+		{667, 1, 2, false, false}, {334, 0, 1, false, false}, {333, 0, 1, true, false}, {1000, 0, 0, false, false},
+	} {
+		rules := two(c.need)
+		rules.Length = 5
+		x := staked(t, rules)
+		makeBlocksOf(t, x, 0, c.made0)
+		makeBlocksOf(t, x, 1, c.made1)
+		checkNext(t, x, 0)
+		for a, isLazy := range []bool{c.isLazy0, c.isLazy1} {
+			if s, e := x.See(a); e != api.OK || (s.Bid == 0) != isLazy || (s.Seats == 0) != isLazy || (s.Queued > 0) != isLazy {
+				t.Errorf("P8: with %+v See(%d) = %+v, %d", c, a, s, e)
+			}
+		}
+	}
+}
+
 // If all would be lazy none is, though one made more than the other.
 func TestLazyAllAreNot(t *testing.T) {
 	x := staked(t, two(1000))
-	giveBlocksOf(x, 0, 4)
-	giveBlocksOf(x, 1, 1)
+	makeBlocksOf(t, x, 0, 4)
+	makeBlocksOf(t, x, 1, 1)
 	checkNext(t, x, 0)
 	checkSee(t, x, 0, api.Account{Locked: 1080, Bid: 1080, Seats: 1}, api.OK)
 	checkSee(t, x, 1, api.Account{Locked: 1021, Bid: 1021, Seats: 1}, api.OK)
@@ -152,9 +160,9 @@ func TestLazyAllAreNot(t *testing.T) {
 // Who is slashed is not among those of whom one must not be lazy.
 func TestLazyBesideSlashedIsNot(t *testing.T) {
 	x := staked(t, two(1000))
-	giveBlocksOf(x, 0, 5)
-	giveBlocksOf(x, 1, 1)
-	x.accounts[0].cheated = true
+	makeBlocksOf(t, x, 0, 5)
+	makeBlocksOf(t, x, 1, 1)
+	checkSlash(t, x, 0, api.OK)
 	checkNext(t, x, 0)
 	checkSee(t, x, 0, api.Account{Queued: 500}, api.OK)
 	checkSee(t, x, 1, api.Account{Locked: 1016, Bid: 1016, Seats: 2}, api.OK)
@@ -179,7 +187,7 @@ func TestWithoutASeatNothingHappens(t *testing.T) {
 	c := api.Config{Seats: 2, Delay: 2, Rate: 100, Length: 4, Need: 1000, Start: []int{50, 50, 50}}
 	x := staked(t, c)
 	checkSee(t, x, 2, api.Account{Locked: 50, Bid: 50}, api.OK)
-	x.accounts[2].cheated = true
+	checkSlash(t, x, 2, api.ErrNone)
 	checkNext(t, x, 0)
 	checkSee(t, x, 0, api.Account{Locked: 50, Bid: 50, Seats: 1}, api.OK)
 	checkSee(t, x, 1, api.Account{Locked: 50, Bid: 50, Seats: 1}, api.OK)
@@ -190,7 +198,7 @@ func TestWithoutASeatNothingHappens(t *testing.T) {
 func TestBurntIsHalfRoundedDown(t *testing.T) {
 	for _, locked := range []int{1, 2, 3, 100, 101, api.MaxStart} {
 		x := staked(t, api.Config{Seats: 1, Delay: 4, Length: 1, Start: []int{locked}})
-		x.accounts[0].cheated = true
+		checkSlash(t, x, 0, api.OK)
 		checkNext(t, x, 0)
 		left := locked - locked/2
 		checkSee(t, x, 0, api.Account{Queued: left}, api.OK)
@@ -206,7 +214,7 @@ func TestBurntIsOfTheLockedAlone(t *testing.T) {
 	x.accounts[0].liquid = 70
 	x.accounts[0].queue[2] = 9
 	checkBid(t, x, 0, 200, api.OK)
-	x.accounts[0].cheated = true
+	checkSlash(t, x, 0, api.OK)
 	checkNext(t, x, 0)
 	checkSee(t, x, 0, api.Account{Liquid: 70, Queued: 509}, api.OK)
 	checkDue(t, x, 0, 4, 509, api.OK)
@@ -234,8 +242,8 @@ func TestNewMoneyIsShared(t *testing.T) {
 		c.Rate = m.rate
 		c.Cut = m.cut
 		x := staked(t, c)
-		giveBlocksOf(x, 0, m.made0)
-		giveBlocksOf(x, 1, m.made1)
+		makeBlocksOf(t, x, 0, m.made0)
+		makeBlocksOf(t, x, 1, m.made1)
 		checkNext(t, x, 0)
 		checkSee(t, x, 0, api.Account{Locked: 1000 + m.paid0, Bid: 1000 + m.paid0, Seats: 1}, api.OK)
 		checkSee(t, x, 1, api.Account{Locked: 1001 + m.paid1, Bid: 1001 + m.paid1, Seats: 1}, api.OK)
@@ -252,7 +260,7 @@ func TestNewMoneyIsOfTheWholeSupply(t *testing.T) {
 	x.accounts[1].queue[1] = 4000
 	x.accounts[2].queue[0] = 20
 	x.treasury = 50000
-	x.accounts[1].cheated = true
+	checkSlash(t, x, 1, api.OK)
 	checkNext(t, x, 0)
 	supply := 2001 + 300 + 4000 + 20 + 50000 - 500
 	if s := x.State(); s.Supply != supply+supply/10 || s.Treasury != 50000+supply/10 {
@@ -262,21 +270,23 @@ func TestNewMoneyIsOfTheWholeSupply(t *testing.T) {
 
 func TestNewMoneyAtTheGreatestSupply(t *testing.T) {
 	for _, m := range []struct{ supply, rate, fresh int }{
-		{api.MaxSupply, 100, 0}, {api.MaxSupply, 0, 0}, {api.MaxSupply - 1, 100, 1}, {api.MaxSupply - 1, 1, 1},
+		{2001, 100, 200}, {api.MaxSupply, 100, 0}, {api.MaxSupply, 0, 0}, {api.MaxSupply - 1, 100, 1}, {api.MaxSupply - 1, 1, 1},
 		{api.MaxSupply - 1, 0, 0}, {909090909, 100, 90909090}, {909090910, 100, 90909090}, {909090911, 100, 90909089},
 		{909090909 - 9, 100, 90909090}, {api.MaxSupply - 999000, 1, 999000}, {api.MaxSupply - 999001, 1, 999000},
 	} {
-		c := two(0)
-		c.Rate = m.rate
-		c.Cut = 500
-		x := staked(t, c)
-		giveBlocks(x, 10)
-		x.treasury = m.supply - 2001
-		checkNext(t, x, 0)
-		paid := (m.fresh - m.fresh/2) * 5 / 10
-		checkSee(t, x, 0, api.Account{Locked: 1000 + paid, Bid: 1000 + paid, Seats: 1}, api.OK)
-		if s := x.State(); s.Supply != m.supply+m.fresh || s.Treasury != m.supply-2001+m.fresh-2*paid {
-			t.Errorf("P8: State at supply %d and rate %d = %+v, want %d more", m.supply, m.rate, s, m.fresh)
+		for _, cut := range []int{0, 1, 500, api.Whole - 1, api.Whole} {
+			c := two(0)
+			c.Rate = m.rate
+			c.Cut = cut
+			x := staked(t, c)
+			makeBlocks(t, x, 10)
+			x.treasury = m.supply - 2001
+			checkNext(t, x, 0)
+			paid := (m.fresh - m.fresh*cut/1000) * 5 / 10
+			checkSee(t, x, 0, api.Account{Locked: 1000 + paid, Bid: 1000 + paid, Seats: 1}, api.OK)
+			if s := x.State(); s.Supply != m.supply+m.fresh || s.Treasury != m.supply-2001+m.fresh-2*paid {
+				t.Errorf("P8: State at %+v and cut %d = %+v", m, cut, s)
+			}
 		}
 	}
 }
@@ -285,8 +295,8 @@ func TestNewMoneyAtTheGreatestSupply(t *testing.T) {
 func TestNewMoneyBehindBurning(t *testing.T) {
 	x := staked(t, two(0))
 	x.treasury = api.MaxSupply - 2001
-	x.accounts[0].cheated = true
-	x.accounts[1].cheated = true
+	checkSlash(t, x, 0, api.OK)
+	checkSlash(t, x, 1, api.OK)
 	checkNext(t, x, 0)
 	checkState(t, x, api.State{Epoch: 2, Supply: api.MaxSupply, Treasury: api.MaxSupply - 1001})
 }
@@ -298,7 +308,9 @@ func TestSupplyGrowsToItsBound(t *testing.T) {
 		for a := range 6 {
 			x.Bid(a, x.accounts[a].locked+x.accounts[a].liquid)
 		}
-		giveBlocks(x, 20)
+		if k > 0 {
+			makeBlocks(t, x, 20)
+		}
 		checkNext(t, x, k)
 		supply += min(supply/10, api.MaxSupply-supply)
 		if s := x.State(); s.Supply != supply || s.Epoch != k+1 || s.Price < 1 {
@@ -314,7 +326,7 @@ func TestSupplyGrowsToItsBound(t *testing.T) {
 func TestPaidBehindALowerBid(t *testing.T) {
 	x := staked(t, two(0))
 	checkBid(t, x, 0, 500, api.OK)
-	giveBlocks(x, 10)
+	makeBlocks(t, x, 10)
 	checkNext(t, x, 0)
 	checkSee(t, x, 0, api.Account{Locked: 600, Bid: 600, Queued: 500, Seats: 1}, api.OK)
 	checkDue(t, x, 0, 4, 500, api.OK)

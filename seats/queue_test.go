@@ -76,7 +76,7 @@ func TestWhatTheLazyHadComesBack(t *testing.T) {
 func TestWhatTheSlashedHadComesBack(t *testing.T) {
 	for delay := api.MinDelay; delay <= api.MaxDelay; delay++ {
 		x := staked(t, api.Config{Seats: 2, Delay: delay, Length: 4, Start: []int{60, 71}})
-		x.accounts[1].cheated = true
+		checkSlash(t, x, 1, api.OK)
 		checkNext(t, x, 0)
 		checkSee(t, x, 1, api.Account{Queued: 36}, api.OK)
 		checkComesBack(t, x, 1, 36, 0, delay)

@@ -109,7 +109,7 @@ func TestPoolLocksWhatItHas(t *testing.T) {
 	checkNext(t, x, 0)
 	checkSee(t, x, 1, api.Account{Locked: 20, Queued: 60, Seats: 2}, api.OK)
 	checkState(t, x, api.State{Epoch: 1, Supply: 99, Treasury: 9, Price: 10})
-	giveBlocks(x, 1)
+	makeBlocks(t, x, 1)
 	checkNext(t, x, 0)
 	checkSee(t, x, 1, api.Account{Locked: 84, Seats: 2}, api.OK)
 	checkState(t, x, api.State{Epoch: 2, Supply: 108, Treasury: 14, Price: 42})
@@ -126,7 +126,7 @@ func TestPoolLosesItsSeats(t *testing.T) {
 		checkLeader(t, x, 0, 1, api.OK)
 		left := 41
 		if isSlashed {
-			x.accounts[1].cheated = true
+			checkSlash(t, x, 1, api.OK)
 			left = 21
 		}
 		checkNext(t, x, 0)
@@ -138,27 +138,4 @@ func TestPoolLosesItsSeats(t *testing.T) {
 		checkSee(t, x, 0, api.Account{Locked: 41, Bid: 41, Seats: 1}, api.OK)
 		checkSee(t, x, 1, api.Account{Locked: left, Seats: 1}, api.OK)
 	}
-}
-
-// Blocks and cheats are of one epoch alone.
-func TestNextForgetsTheEpoch(t *testing.T) {
-	x := staked(t, two(1000))
-	giveBlocks(x, 10)
-	x.accounts[1].cheated = true
-	checkNext(t, x, 0)
-	checkSee(t, x, 0, api.Account{Locked: 1075, Bid: 1075, Seats: 2}, api.OK)
-	for _, has := range x.blocks {
-		if has {
-			t.Errorf("P8: there is a block already: %v", x.blocks)
-		}
-	}
-	for _, c := range x.accounts {
-		if c.cheated {
-			t.Errorf("P8: slashed already: %+v", c)
-		}
-	}
-	before := x.State().Treasury
-	checkNext(t, x, 0)
-	// Nothing is paid for the blocks of the epoch before.
-	checkState(t, x, api.State{Epoch: 3, Supply: 1816, Treasury: before + 165, Price: 537})
 }

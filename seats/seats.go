@@ -126,7 +126,7 @@ func (x *Chain) Next(seed int) api.Errno {
 
 // Leader tells whose turn a height is (P9).
 func (x *Chain) Leader(height int) (int, api.Errno) {
-	if !within(height, 0, x.rules.length-1) {
+	if !x.isHeight(height) {
 		return 0, api.ErrHeight
 	}
 	if x.turns.length < 1 {
@@ -136,10 +136,31 @@ func (x *Chain) Leader(height int) (int, api.Errno) {
 }
 
 // Make makes the block of a height (P9).
-func (x *Chain) Make(height int) api.Errno { return api.OK }
+func (x *Chain) Make(height int) api.Errno {
+	if !x.isHeight(height) {
+		return api.ErrHeight
+	}
+	if x.turns.length < 1 {
+		return api.ErrNone
+	}
+	if x.blocks[height] {
+		return api.ErrAgain
+	}
+	x.blocks[height] = true
+	return api.OK
+}
 
-// Slash tells of an account that has cheated (P10).
-func (x *Chain) Slash(a int) api.Errno { return api.OK }
+// Slash tells of an account that has cheated (P10). It loses nothing before the epoch ends.
+func (x *Chain) Slash(a int) api.Errno {
+	if !x.isAccount(a) {
+		return api.ErrName
+	}
+	if x.accounts[a].seats < 1 {
+		return api.ErrNone
+	}
+	x.accounts[a].cheated = true
+	return api.OK
+}
 
 // Deposit gives to the pool, for shares (P11).
 func (x *Chain) Deposit(a int, amount int) (int, api.Errno) { return 0, api.OK }

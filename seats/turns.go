@@ -47,6 +47,11 @@ func (x *Chain) draw(seed int) {
 	x.turns.shuffle(seed)
 }
 
+// isHeight tells whether an epoch has this height.
+func (x *Chain) isHeight(height int) bool {
+	return within(height, 0, x.rules.length-1)
+}
+
 // leads tells whether the height is a turn of account a.
 func (x *Chain) leads(a int, height int) bool {
 	leader, err := x.Leader(height)
