@@ -20,6 +20,11 @@ func (c *account) queued() int {
 	return sum
 }
 
+// all is whatever the account has, now or later.
+func (c *account) all() int {
+	return c.liquid + c.locked + c.queued()
+}
+
 // dueIn is what comes back so many epochs from now.
 func (c *account) dueIn(epochs int) int {
 	if !within(epochs, 1, api.MaxDelay) {
@@ -28,13 +33,18 @@ func (c *account) dueIn(epochs int) int {
 	return c.queue[epochs-1]
 }
 
-// unlock queues so much of what is locked, to come back so many epochs from now.
-func (c *account) unlock(amount int, epochs int) {
+// await queues an amount, to come back so many epochs from now.
+func (c *account) await(amount int, epochs int) {
 	if !within(epochs, 1, api.MaxDelay) {
 		return
 	}
-	c.locked -= amount
 	c.queue[epochs-1] += amount
+}
+
+// unlock queues so much of what is locked.
+func (c *account) unlock(amount int, epochs int) {
+	c.locked -= amount
+	c.await(amount, epochs)
 }
 
 // quit unlocks all, and the account bids no more.
@@ -80,9 +90,7 @@ func (x *Chain) isPerson(a int) bool {
 func (x *Chain) supply() int {
 	sum := x.treasury
 	for i := range x.accounts {
-		c := &x.accounts[i]
-		sum += c.liquid + c.locked
-		sum += c.queued()
+		sum += x.accounts[i].all()
 	}
 	return sum
 }

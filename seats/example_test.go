@@ -42,6 +42,16 @@ func Example() {
 	fmt.Println(err)
 	state = x.State()
 	fmt.Println(state.Supply, state.Price)
+	shares, err := x.Deposit(1, 100)
+	fmt.Println(shares, err)
+	worth, err := x.Leave(1, 30)
+	fmt.Println(worth, err)
+	amount, err = x.Due(1, 4)
+	fmt.Println(amount, err)
+	err = x.Next(0)
+	fmt.Println(err)
+	account, err = x.See(2)
+	fmt.Println(account.Locked, account.Seats, err)
 	// Output:
 	// 5 0
 	// 0
@@ -58,4 +68,9 @@ func Example() {
 	// 0
 	// 0
 	// 1485 0
+	// 100 0
+	// 30 0
+	// 30 0
+	// 0
+	// 70 2 0
 }

@@ -1,6 +1,7 @@
 package seats
 
 import (
+	"math/big"
 	"math/rand"
 	"slices"
 	"testing"
@@ -17,6 +18,7 @@ type model struct {
 	c                               api.Config
 	epoch, supply, treasury, price  int
 	liquid, locked, bid, seats      []int
+	shares                          []int
 	lots                            []lot
 	row                             []int
 	hasBlock, slashedNow, lazyFound map[int]bool
@@ -28,6 +30,7 @@ func newModel(c api.Config) *model {
 	m.locked = make([]int, len(c.Start)+1)
 	m.bid = make([]int, len(c.Start)+1)
 	m.seats = make([]int, len(c.Start)+1)
+	m.shares = make([]int, len(c.Start)+1)
 	for _, amount := range c.Start {
 		m.supply += amount
 	}
@@ -70,6 +73,72 @@ func (m *model) send(a int, b int, amount int) api.Errno {
 	m.liquid[a] -= amount
 	m.liquid[b] += amount
 	return api.OK
+}
+
+func (m *model) allShares() int {
+	sum := 0
+	for _, shares := range m.shares {
+		sum += shares
+	}
+	return sum
+}
+
+// quotient is v times w / u, with numbers of any size.
+func quotient(v int, w int, u int) int {
+	product := new(big.Int).Mul(big.NewInt(int64(v)), big.NewInt(int64(w)))
+	return int(product.Div(product, big.NewInt(int64(u))).Int64())
+}
+
+func (m *model) ofThePool() int {
+	s := m.see(len(m.c.Start))
+	return s.Liquid + s.Locked + s.Queued
+}
+
+func (m *model) deposit(a int, amount int) (int, api.Errno) {
+	switch {
+	case a < 0 || a >= len(m.c.Start):
+		return 0, api.ErrName
+	case amount < 1 || amount > api.MaxSupply:
+		return 0, api.ErrAmount
+	case m.liquid[a] < amount:
+		return 0, api.ErrFunds
+	}
+	given := amount
+	if m.allShares() > 0 {
+		given = quotient(amount, m.allShares(), m.ofThePool())
+	}
+	switch {
+	case given == 0:
+		return 0, api.ErrSmall
+	case m.allShares()+given > api.MaxShares:
+		return 0, api.ErrFull
+	}
+	m.liquid[a] -= amount
+	m.locked[len(m.c.Start)] += amount
+	m.shares[a] += given
+	return given, api.OK
+}
+
+func (m *model) leave(a int, shares int) (int, api.Errno) {
+	switch {
+	case a < 0 || a >= len(m.c.Start):
+		return 0, api.ErrName
+	case shares < 1 || shares > api.MaxShares:
+		return 0, api.ErrAmount
+	case m.shares[a] < shares:
+		return 0, api.ErrFunds
+	}
+	worth := quotient(shares, m.ofThePool(), m.allShares())
+	switch {
+	case worth == 0:
+		return 0, api.ErrSmall
+	case worth > m.locked[len(m.c.Start)]:
+		return 0, api.ErrBusy
+	}
+	m.shares[a] -= shares
+	m.locked[len(m.c.Start)] -= worth
+	m.lots = append(m.lots, lot{a, worth, m.epoch + m.c.Delay})
+	return worth, api.OK
 }
 
 func (m *model) leader(height int) (int, api.Errno) {
@@ -251,7 +320,9 @@ func (m *model) see(a int) api.Account {
 			queued += l.amount
 		}
 	}
-	return api.Account{Liquid: m.liquid[a], Locked: m.locked[a], Bid: m.bid[a], Queued: queued, Seats: m.seats[a]}
+	return api.Account{
+		Liquid: m.liquid[a], Locked: m.locked[a], Bid: m.bid[a], Queued: queued, Seats: m.seats[a], Shares: m.shares[a],
+	}
 }
 
 // pair is a chain and the model of it.
@@ -262,7 +333,9 @@ type pair struct {
 
 func (p pair) check(t *testing.T) {
 	t.Helper()
-	checkState(t, p.x, api.State{Epoch: p.m.epoch, Supply: p.m.supply, Treasury: p.m.treasury, Price: p.m.price})
+	checkState(t, p.x, api.State{
+		Epoch: p.m.epoch, Supply: p.m.supply, Treasury: p.m.treasury, Price: p.m.price, Shares: p.m.allShares(),
+	})
 	for a := range p.m.locked {
 		checkSee(t, p.x, a, p.m.see(a), api.OK)
 		for k := -1; k <= api.MaxDelay+1; k++ {
@@ -308,7 +381,7 @@ func (p pair) act(t *testing.T, r *rand.Rand) {
 		have = p.m.liquid[a] + p.m.locked[a]
 	}
 	amount := anAmount(r, have)
-	switch r.Intn(14) {
+	switch r.Intn(16) {
 	case 0, 1, 2, 3:
 		checkBid(t, p.x, a, amount, p.m.bidFor(a, amount))
 	case 4:
@@ -319,13 +392,20 @@ func (p pair) act(t *testing.T, r *rand.Rand) {
 		p.makeSome(t, r)
 	case 9:
 		checkSlash(t, p.x, a, p.m.slash(a))
-	case 10:
-		p.fillPool(a, amount)
+	case 10, 11:
+		p.deposit(t, a, amount)
+	case 12:
+		p.leaveSome(t, r, a)
 	default:
-		seed := aSeed(r)
-		p.m.next(seed)
-		checkNext(t, p.x, seed)
+		p.next(t, r)
 	}
+}
+
+func (p pair) next(t *testing.T, r *rand.Rand) {
+	t.Helper()
+	seed := aSeed(r)
+	p.m.next(seed)
+	checkNext(t, p.x, seed)
 }
 
 // bidAlike has all accounts bid the same, as far as they can: so that more than one has a seat.
@@ -353,16 +433,22 @@ func (p pair) makeSome(t *testing.T, r *rand.Rand) {
 	checkMake(t, p.x, height, p.m.makeAt(height))
 }
 
-// fillPool gives to the pool by hand.
-func (p pair) fillPool(a int, amount int) {
-	pool := len(p.m.c.Start)
-	if a < 0 || a >= pool || amount < 1 || amount > p.m.liquid[a] {
-		return
+func (p pair) deposit(t *testing.T, a int, amount int) {
+	t.Helper()
+	given, e := p.m.deposit(a, amount)
+	checkDeposit(t, p.x, a, amount, given, e)
+}
+
+// leaveSome gives back about as many shares as the account has.
+func (p pair) leaveSome(t *testing.T, r *rand.Rand, a int) {
+	t.Helper()
+	have := 0
+	if a >= 0 && a < len(p.m.shares) {
+		have = p.m.shares[a]
 	}
-	p.m.liquid[a] -= amount
-	p.m.locked[pool] += amount
-	p.x.accounts[a].liquid -= amount
-	p.x.accounts[pool].locked += amount
+	shares := anAmount(r, have)
+	worth, e := p.m.leave(a, shares)
+	checkLeave(t, p.x, a, shares, worth, e)
 }
 
 func aConfig(r *rand.Rand) api.Config {
@@ -423,16 +509,58 @@ func TestSeatedChainsAsTheModel(t *testing.T) {
 		p := pair{mustNew(t, c), newModel(c)}
 		for range 40 {
 			p.bidAlike(t, anAmount(r, slices.Max(c.Start)))
-			p.fillPool(r.Intn(len(c.Start)), r.Intn(1+slices.Max(c.Start)/4))
+			p.deposit(t, r.Intn(len(c.Start)), r.Intn(1+slices.Max(c.Start)/4))
+			p.leaveSome(t, r, r.Intn(len(c.Start)))
 			p.makeSome(t, r)
 			for range r.Intn(3) {
 				a := r.Intn(len(c.Start) + 1)
 				checkSlash(t, p.x, a, p.m.slash(a))
 			}
 			p.check(t)
-			seed := aSeed(r)
-			p.m.next(seed)
-			checkNext(t, p.x, seed)
+			p.next(t, r)
+			p.check(t)
+		}
+	}
+}
+
+// actInThePool gives to it and takes from it, and tells of it that it cheated, so that its shares become many for little.
+func (p pair) actInThePool(t *testing.T, r *rand.Rand) {
+	t.Helper()
+	pool := len(p.m.c.Start)
+	a := r.Intn(pool)
+	switch r.Intn(9) {
+	case 0, 1:
+		p.deposit(t, a, anAmount(r, p.m.liquid[a]))
+	case 2:
+		p.deposit(t, a, 1+r.Intn(5))
+	case 3, 4:
+		p.leaveSome(t, r, a)
+	case 5:
+		shares := 1 + r.Intn(1+p.m.shares[a]/max(1, p.m.ofThePool()))
+		worth, e := p.m.leave(a, shares)
+		checkLeave(t, p.x, a, shares, worth, e)
+	case 6:
+		p.makeSome(t, r)
+	case 7:
+		checkSlash(t, p.x, pool, p.m.slash(pool))
+		p.next(t, r)
+	default:
+		p.next(t, r)
+	}
+}
+
+// Few bid, so that the pool has seats in most epochs.
+func TestPoolsAsTheModel(t *testing.T) {
+	r := rand.New(rand.NewSource(6))
+	for range 150 {
+		c := aConfig(r)
+		c.Rate = c.Rate * r.Intn(2)
+		p := pair{mustNew(t, c), newModel(c)}
+		if r.Intn(3) == 0 {
+			checkBid(t, p.x, 0, c.Start[0]/3, p.m.bidFor(0, c.Start[0]/3))
+		}
+		for range 200 {
+			p.actInThePool(t, r)
 			p.check(t)
 		}
 	}

@@ -117,15 +117,15 @@ func TestWhatComesBackMayBeBid(t *testing.T) {
 	checkSee(t, x, 0, api.Account{Liquid: 400, Locked: 600, Bid: 600, Seats: 1}, api.OK)
 }
 
-func TestUnlockIntoNoEpoch(t *testing.T) {
+func TestAwaitInNoEpoch(t *testing.T) {
 	for _, epochs := range edges {
 		if epochs >= 1 && epochs <= api.MaxDelay {
 			continue
 		}
 		c := account{locked: 5}
-		c.unlock(5, epochs)
+		c.await(5, epochs)
 		if c != (account{locked: 5}) {
-			t.Errorf("unlocked into %d epochs: %+v", epochs, c)
+			t.Errorf("queued for %d epochs from now: %+v", epochs, c)
 		}
 	}
 }

@@ -163,7 +163,49 @@ func (x *Chain) Slash(a int) api.Errno {
 }
 
 // Deposit gives to the pool, for shares (P11).
-func (x *Chain) Deposit(a int, amount int) (int, api.Errno) { return 0, api.OK }
+func (x *Chain) Deposit(a int, amount int) (int, api.Errno) {
+	if !x.isPerson(a) {
+		return 0, api.ErrName
+	}
+	if !within(amount, 1, api.MaxSupply) {
+		return 0, api.ErrAmount
+	}
+	if x.accounts[a].liquid < amount {
+		return 0, api.ErrFunds
+	}
+	shares := x.sharesFor(amount)
+	if shares < 1 {
+		return 0, api.ErrSmall
+	}
+	if x.allShares() > api.MaxShares-shares {
+		return 0, api.ErrFull
+	}
+	x.accounts[a].liquid -= amount
+	x.accounts[x.people].locked += amount
+	x.accounts[a].shares += shares
+	return shares, api.OK
+}
 
 // Leave gives shares back (P11).
-func (x *Chain) Leave(a int, shares int) (int, api.Errno) { return 0, api.OK }
+func (x *Chain) Leave(a int, shares int) (int, api.Errno) {
+	if !x.isPerson(a) {
+		return 0, api.ErrName
+	}
+	if !within(shares, 1, api.MaxShares) {
+		return 0, api.ErrAmount
+	}
+	if x.accounts[a].shares < shares {
+		return 0, api.ErrFunds
+	}
+	worth := x.worthOf(shares)
+	if worth < 1 {
+		return 0, api.ErrSmall
+	}
+	if x.accounts[x.people].locked < worth {
+		return 0, api.ErrBusy
+	}
+	x.accounts[a].shares -= shares
+	x.accounts[x.people].locked -= worth
+	x.accounts[a].await(worth, x.rules.delay)
+	return worth, api.OK
+}
